@@ -1,0 +1,1 @@
+"""Whatspeed: how long a program takes, for every speed of its parts."""
