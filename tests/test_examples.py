@@ -1,10 +1,14 @@
-"""The examples of sections 4 and 5, as they stand there."""
+"""The examples of sections 4 to 9 that need nothing of later sections, as they stand there."""
 
 import unittest
 
+from tests.telling import pieces_of, shown, shown_all, told
+from whatspeed.asking import falls, greatest, least, pulls, reaches
+from whatspeed.curves import curve
 from whatspeed.errors import BadNumber, BadProgram, Doubled, Unnamed
 from whatspeed.exact import Line, Number, Stretch
 from whatspeed.programs import Program
+from whatspeed.runs import run
 
 EXAMPLE = """cores 1
 slice 0
@@ -21,6 +25,19 @@ lock door
 work 2
 unlock door
 say 1"""
+
+TEXT = (
+    'cores 1\nslice 0\nlock door\npart fetch\ntask low 1\nwork 4 fetch\nlock door\nwork 3\nunlock door\ntask high 2\n'
+    'sleep 5\nlock door\nwork 2\nunlock door\nsay 1'
+)
+LENT = (
+    'cores 2\nslice 3\nlock a lent\ntask one 1\nlock a\nwork 5\nunlock a\ntask two 1\nwork 7\ntask tri 1\nwork 4\n'
+    'task top 3\nsleep 2\nlock a\nwork 2\nunlock a'
+)
+GATE = (
+    'cores 2\nslice 0\nlock door\npart fetch\ntask low 1\nwork 4 fetch\nlock door\nwork 30\nunlock door\n'
+    'task high 2\nsleep 5\nlock door\nwork 2\nunlock door\nwork 40'
+)
 
 
 class ExamplesTest(unittest.TestCase):
@@ -70,3 +87,86 @@ class ExamplesTest(unittest.TestCase):
         with self.assertRaises(Unnamed) as caught:
             Program("cores 1\nslice 0\ntask one 1\nwait two")
         self.assertEqual(caught.exception.line, 3)
+
+    def test_run(self):
+        one = run(Program(TEXT))
+        self.assertEqual(
+            [
+                one.time.top, one.outcome, one.outputs[0][1:], run(Program(TEXT), (('fetch', Number(0)),)).time.top,
+                run(Program(TEXT), (('fetch', Number(3, 2)),)).time.top,
+            ],
+            [9, 'done', ('high', 1), 7, 11],
+        )
+
+    def test_run_of_section_5_in_words(self):
+        # low gets the door at 4; high wakes at 5, stops low, and waits from 5 on; low has the door until 7.
+        one = run(Program(TEXT))
+        self.assertEqual([[time.top, time.bottom] for time, _ in one.moments], [[0, 1], [4, 1], [5, 1], [7, 1], [9, 1]])
+        holders = [one.state(Number(at)).holder("door") for at in (3, 4, 6, 7, 9)]
+        self.assertEqual(holders, [None, "low", "low", "high", None])
+        self.assertEqual(one.state(Number(5))["high"], ("lock", "door"))
+        # If fetch costs nothing, low is through at 3; if it costs 6, high works until 7, and low ends at 11.
+        for factor, low, high in [(Number(0), 3, 7), (Number(3, 2), 11, 7)]:
+            one = run(Program(TEXT), (('fetch', factor),))
+            ends = [one.time_of(one.events.index(event)).top for event in [("end", "low", 4), ("end", "high", 9)]]
+            self.assertEqual(ends, [low, high])
+
+    def test_lent_lock(self):
+        one = run(Program(LENT))
+        self.assertEqual(
+            [one.time.top, len(one.moments), one.moments[1][1]],
+            [9, 6, (
+                ('wake', 'top', 12), ('stop', 'two', 0), ('run', 'top', 0), ('step', 'top', 13), ('run', 'two', 0),
+            )],
+        )
+
+    def test_lent_lock_in_words(self):
+        one = run(Program(LENT))
+        self.assertEqual([time.top for time, _ in one.moments], [0, 2, 5, 7, 8, 9])
+        self.assertEqual(told(one)[2], (
+            "5: over one 5, slice two 0, run tri 0, step tri 10, step one 6, go top 13, stop tri 0, run top 0, "
+            "slice one 1, run tri 1, step top 14"
+        ))
+        self.assertEqual(one.time_of(one.events.index(("end", "one", 3))), Number(8))
+
+    def test_chain(self):
+        one = run(Program(TEXT)).chain()
+        self.assertEqual(
+            [one[0][:3], one[0][3].top, one[1][:3], one[1][3].top, one[2][:3], one[2][3].top, len(one)],
+            [('work', 'high', 12), 2, ('work', 'low', 7), 2, ('sleep', 'high', 10), 5, 3],
+        )
+
+    def test_account(self):
+        account = run(Program(TEXT)).account('high')
+        self.assertEqual(
+            [account[0][:2], account[0][2].top, account[1][:2], account[1][2].top, len(account)],
+            [('lock', 'door'), 2, ('sleep', ''), 5, 3],
+        )
+
+    def test_curve(self):
+        # The example of section 8, without the function of section 12 that shows it.
+        one = curve(Program(TEXT), (('fetch', Number(0), Number(2)),))
+        self.assertEqual(pieces_of(one), [
+            "[0 0] done 7", "(0 1/4) done 7", "[1/4 1/4] done 7", "(1/4 5/8) done 5+8s", "[5/8 5/8] done 10",
+            "(5/8 1] done 5+8s",
+        ])
+
+    def test_asking(self):
+        # The first example of section 9, likewise.
+        one = curve(Program(GATE), (('fetch', Number(0), Number(2)),))
+        self.assertEqual(
+            [
+                falls(one) == None, shown(reaches(one, Number(50))[0]), least(one)[0].top,  # noqa: E711
+                shown(least(one)[1]), greatest(one)[0].top, greatest(one)[1],
+            ],
+            [False, '[5/8 1]', 47, '[5/8 1]', 77, None],
+        )
+        self.assertEqual(shown_all(reaches(one, Number(50))), "[5/8 1]")
+        self.assertEqual([jump.top for s, _, _, _, jump in one.changes() if s == Number(5, 8)], [-30, 0])
+
+    def test_pulls(self):
+        row = pulls(Program(TEXT), ())[0]
+        self.assertEqual(
+            [row[0], row[1][0].top, row[1][1].top, row[2][0].top, row[2][1].top],
+            ['fetch', 4, 0, 4, 0],
+        )

@@ -5,6 +5,7 @@ from whatspeed.words import is_name, read_whole
 MOST_WORDS = 40
 MOST_OPENED = 6
 GREATEST = 999
+MODULUS = 1000
 
 
 def read_expression(words):
@@ -23,6 +24,28 @@ def variables_of(tree):
         return [tree]
     _, left, right = tree
     return variables_of(left) + variables_of(right)
+
+
+def value_of(tree, shared, own):
+    """The value of a tree; shared has the values of the cells, own those of the other variables (0 if not there)."""
+    if isinstance(tree, int):
+        return tree
+    if isinstance(tree, str):
+        return shared[tree] if tree in shared else own.get(tree, 0)
+    sign, left, right = tree
+    return _worked_out(sign, value_of(left, shared, own), value_of(right, shared, own))
+
+
+def _worked_out(sign, left, right):
+    if sign == "+":
+        return (left + right) % MODULUS
+    if sign == "-":
+        return (left - right) % MODULUS
+    if sign == "*":
+        return (left * right) % MODULUS
+    if sign == "=":
+        return int(left == right)
+    return int(left < right) if sign == "<" else int(left > right)
 
 
 def _most_opened(words):

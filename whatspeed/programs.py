@@ -1,6 +1,7 @@
 """Programs: texts that keep all rules for them."""
 
 from whatspeed.errors import BadProgram
+from whatspeed.plans import Plan
 from whatspeed.reading import check_doubled, check_named, declared_names, read_forms
 
 
@@ -18,6 +19,7 @@ class Program:
         self._lines = tuple(lines)
         self._parts = declared_names(forms, "part")
         self._tasks = declared_names(forms, "task")
+        self._plan = Plan(forms)
 
     @property
     def text(self):
@@ -38,6 +40,11 @@ class Program:
     def tasks(self):
         """The names of the tasks, in their sequence."""
         return self._tasks
+
+    @property
+    def plan(self):
+        """What the text says, for those who run it."""
+        return self._plan
 
     def __eq__(self, other):
         return isinstance(other, Program) and self._text == other._text
