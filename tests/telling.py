@@ -8,6 +8,17 @@ from whatspeed.exact import Number
 from whatspeed.programs import Program
 from whatspeed.runs import run
 
+# The examples of sections 5 and 10, and one with a cell for each meeting of two tasks.
+DOOR = [
+    "lock door", "part fetch", "task low 1; work 4 fetch; lock door; work 3; unlock door",
+    "task high 2; sleep 5; lock door; work 2; unlock door; say 1",
+]
+GATE = [
+    "cores 2", "lock door", "part fetch", "task low 1; work 4 fetch; lock door; work 30; unlock door",
+    "task high 2; sleep 5; lock door; work 2; unlock door; work 40",
+]
+MANY = ["cores 2", "part dig", "task one 1; repeat 20; work 1 dig; end", "task two 1; repeat 20; work 1; end"]
+
 
 def program(*rows):
     """A Program; a row may hold several lines with `; ` between, and cores 1 and slice 0 may be left out."""

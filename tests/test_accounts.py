@@ -1,15 +1,10 @@
 """Section 7: the account of a task, and the chain of a run."""
 
 from tests.helpers import any_values
-from tests.telling import RunCase, amount, fraction, links, number, program, speeds, spent
+from tests.telling import DOOR, RunCase, amount, fraction, links, program, speeds, spent
 from whatspeed.errors import NoTask
 from whatspeed.exact import Number
 from whatspeed.runs import run
-
-DOOR = [
-    "lock door", "part fetch", "task low 1; work 4 fetch; lock door; work 3; unlock door",
-    "task high 2; sleep 5; lock door; work 2; unlock door; say 1",
-]
 
 
 class AccountTest(RunCase):
@@ -88,6 +83,14 @@ class AccountTest(RunCase):
             "one": "", "two": "work  2",
         })
         self.assertEqual(one.account("one"), ())
+
+    def test_run_of_one_moment(self):
+        self.assertEqual(run(program("task one 1; say 1")).account("one"), ())
+
+    def test_beside_an_idle_core(self):
+        self.accounts(["cores 2", "part dig", "task two 2; work 1", "task one 1; work 3 dig"], {
+            "one": "work dig 3", "two": "work  1",
+        })
 
     def test_task_that_never_began(self):
         one = self.accounts(["task one 1; work 4", "task two 1 later; work 1"], {"one": "work  4"})

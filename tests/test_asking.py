@@ -1,21 +1,15 @@
 """Section 9: reaches, where, least, greatest, falls, unlike and slower."""
 
 from tests.helpers import any_values
-from tests.telling import CurveCase, amount, fraction, number, pieces_of, program, question, shown, shown_all
+from tests.telling import (
+    DOOR, GATE, CurveCase, amount, fraction, number, pieces_of, program, question, shown, shown_all,
+)
 from whatspeed.asking import falls, greatest, least, reaches, slower, unlike, where
 from whatspeed.curves import curve
 from whatspeed.exact import Number, Stretch
 
 # One cell for dig from 1 to 2: 7 + 4 s.
 PLAIN = ["part dig", "task one 1; work 4 dig; work 3"]
-DOOR = [
-    "lock door", "part fetch", "task low 1; work 4 fetch; lock door; work 3; unlock door",
-    "task high 2; sleep 5; lock door; work 2; unlock door; say 1",
-]
-GATE = [
-    "cores 2", "lock door", "part fetch", "task low 1; work 4 fetch; lock door; work 30; unlock door",
-    "task high 2; sleep 5; lock door; work 2; unlock door; work 40",
-]
 VALLEY = ["cores 2", "part dig", "part haul", "task one 1; work 6 dig", "task two 1; work 6 haul"]
 # At 1/2, where dig is 1, two takes its step between those of one and tri.
 DIP = [
@@ -293,6 +287,11 @@ class UnlikeTest(CurveCase):
         self.differ(one, asked(["task one 1; say 1; say 1"]), "[0 1]")
         self.differ(one, asked(["task one 1; work 1"]), "[0 1]")
 
+    def test_at_all_but_one_place(self):
+        rows = [*DIP[:5], "task two 1; work 2; if a = b; say 1; end", DIP[6]]
+        self.differ(asked(rows, dig=(0, 2)), asked(["task two 1; work 1"]), "[0 1/2) (1/2 1]")
+        self.differ(asked(rows, dig=(0, 2)), asked(["task two 1; say 1"]), "[1/2 1/2]")
+
     def test_many_cells(self):
         # The borders of both: 1/2, and 1/4, 1/2, 3/4.
         rows = ["cores 2", "part dig", "task one 1; work 4 dig; say 1", "task two 1; repeat 3; work 1; say 2; end"]
@@ -338,6 +337,7 @@ class SlowerTest(CurveCase):
         trap, plain, never = asked(TRAP, dig=(0, 1)), asked(PLAIN, dig=(1, 2)), asked(NEVER, dig=(1, 2))
         self.assertEqual([shown_all(slower(trap, plain)), slower(plain, trap)], ["[0 1/2]", ()])
         self.assertEqual([slower(never, plain), slower(plain, never)], [(), ()])
+        self.assertEqual(slower(asked(["task one 1; work 1"]), never), ())
 
     def test_other_questions(self):
         one, other = asked(VALLEY, dig=(0, 2), haul=(2, 0)), asked(CLIFF, dig=(2, 0))

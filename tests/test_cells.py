@@ -1,15 +1,13 @@
 """Section 8: class Cell."""
 
 from tests.helpers import any_values, others
-from tests.telling import CurveCase, amount, fraction, links, number, program, question, said, shown, spent, told
+from tests.telling import (
+    DOOR, CurveCase, amount, fraction, links, number, program, question, said, shown, spent, told,
+)
 from whatspeed.curves import curve
 from whatspeed.errors import NoEvent, NoSpeed, NoTask
 from whatspeed.exact import Line, Number, Stretch
 
-DOOR = [
-    "lock door", "part fetch", "task low 1; work 4 fetch; lock door; work 3; unlock door",
-    "task high 2; sleep 5; lock door; work 2; unlock door; say 1",
-]
 RACE = ["cores 2", "part dig", "task one 1; work 2 dig", "task two 1; work 2"]
 
 

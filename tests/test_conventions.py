@@ -3,7 +3,7 @@
 import copy
 import inspect
 
-from tests.telling import CurveCase, number, program, question, speeds
+from tests.telling import MANY, CurveCase, number, program, question, speeds
 from whatspeed import asking, curves, runs
 from whatspeed.curves import curve, shows_cell, shows_curve
 from whatspeed.errors import BadQuestion, BadSpeeds, NoSpeed, TooMany
@@ -105,8 +105,7 @@ class ArgumentsTest(CurveCase):
 
     def test_sequence_of_errors(self):
         # A question that is none is told ahead of too many cells, and speeds and questions ahead of the value.
-        rows = ["cores 2", "part dig", "task one 1; repeat 20; work 1 dig; end", "task two 1; repeat 20; work 1; end"]
-        many = program(*rows)
+        many = program(*MANY)
         with self.assertRaises(TooMany):
             curve(many, question(dig=(0, 9)))
         for value in (question(dig=(0, 9)) * 2, list(question(dig=(0, 9)))):

@@ -4,21 +4,16 @@ import inspect
 from fractions import Fraction
 
 from tests.helpers import any_values, others
-from tests.telling import CurveCase, amount, changed, fraction, number, program, question, speeds
+from tests.telling import DOOR, GATE, MANY, CurveCase, amount, changed, fraction, number, program, question, speeds
 from whatspeed.curves import curve, shows_cell, shows_curve
 from whatspeed.errors import NoSpeed, TooMany
 from whatspeed.exact import Number
 from whatspeed.runs import run
 
-DOOR = [
-    "lock door", "part fetch", "task low 1; work 4 fetch; lock door; work 3; unlock door",
-    "task high 2; sleep 5; lock door; work 2; unlock door; say 1",
-]
 RACE = ["cores 2", "part dig", "task one 1; work 2 dig", "task two 1; work 2"]
 TURNS = ["slice 2", "part dig", "task one 1; work 4 dig", "task two 1; work 3"]
 
 # For s from 0 to 1 the tasks meet whenever j = GOAL * i * s, i and j from 1 to 20.
-MANY = ["cores 2", "part dig", "task one 1; repeat 20; work 1 dig; end", "task two 1; repeat 20; work 1; end"]
 MEETINGS = sorted({Fraction(j, i) for i in range(1, 21) for j in range(1, 21)})
 
 
@@ -77,11 +72,7 @@ class CellsTest(CurveCase):
         ], dig=(0, 2))
 
     def test_jumps(self):
-        rows = [
-            "cores 2", "lock door", "part fetch", "task low 1; work 4 fetch; lock door; work 30; unlock door",
-            "task high 2; sleep 5; lock door; work 2; unlock door; work 40",
-        ]
-        self.curves(rows, [
+        self.curves(GATE, [
             "[0 0] done 72", "(0 5/8) done 72+8s", "[5/8 5/8] done 47", "(5/8 7/8) done 47", "[7/8 7/8] done 47",
             "(7/8 1] done 47",
         ], fetch=(0, 2))
@@ -253,14 +244,10 @@ class ChangesTest(CurveCase):
                 self.assertEqual(jump, late(s) - early(s))
 
     def test_jump(self):
-        rows = [
-            "cores 2", "lock door", "part fetch", "task low 1; work 4 fetch; lock door; work 30; unlock door",
-            "task high 2; sleep 5; lock door; work 2; unlock door; work 40",
-        ]
-        self.assertEqual([(row[0], row[4]) for row in self.changes(rows, fetch=(0, 2))], [
+        self.assertEqual([(row[0], row[4]) for row in self.changes(GATE, fetch=(0, 2))], [
             ("0", "0"), ("5/8", "-30"), ("5/8", "0"), ("7/8", "0"), ("7/8", "0"),
         ])
-        self.assertEqual([(row[0], row[4]) for row in self.changes(rows, fetch=(2, 0))], [
+        self.assertEqual([(row[0], row[4]) for row in self.changes(GATE, fetch=(2, 0))], [
             ("1/8", "0"), ("1/8", "0"), ("3/8", "0"), ("3/8", "30"), ("1", "0"),
         ])
 
@@ -383,7 +370,8 @@ class RowsTest(CurveCase):
         rest = curve(one, ()).rows()[0][4:]
         self.assertIs(shows_cell(one, (), ((0, 1), True, (1, 1), True, *rest)), True)
         for low, high in [
-            ((1, 1), (0, 1)), ((-1, 1), (1, 1)), ((0, 1), (2, 1)), ((0, 1), (10 ** 40, 1)), ((0, 0), (1, 1)),
+            ((1, 1), (0, 1)), ((-1, 1), (1, 1)), ((-2, 1), (-1, 1)), ((-1, 1), (0, 1)), ((-1, 1), (-1, 1)),
+            ((2, 1), (3, 1)), ((0, 1), (2, 1)), ((0, 1), (10 ** 40, 1)), ((0, 0), (1, 1)),
             ((0, 1), (1, 0)), ((0, -1), (1, 1)), ((0, 2), (1, 1)), ((0, 1), (2, 2)), ((0, 1), (-1, -1)),
             ((0,), (1, 1)), ((0, 1), (1, 1, 1)), (0, 1), ("0", "1"), (Number(0), Number(1)), (None, None),
             ([0, 1], [1, 1]), ((0, 1), True), ((False, 1), (1, 1)), ((0, 1), (True, 1)), ((0, True), (1, True)),

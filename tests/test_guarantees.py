@@ -103,7 +103,7 @@ class CurvesTest(unittest.TestCase):
                 self.no_piece_too_many(one)
                 self.every_speed(one, random.Random(at))
                 self.sums(one)
-        self.assertGreater(many, 4 * len(CURVES))
+        self.assertGreater(many, 2 * len(CURVES))
 
     def no_piece_too_many(self, one):
         """The cells reach from 0 to 1 without a gap, and no two neighbours have the same story."""

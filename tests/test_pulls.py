@@ -1,21 +1,11 @@
 """Section 9: pulls. (BadSpeeds is looked at beside run, in test_speeds.)"""
 
-from tests.telling import CurveCase, amount, number, program, question, speeds
+from tests.telling import DOOR, GATE, MANY, CurveCase, amount, number, program, question, speeds
 from whatspeed.asking import pulls
 from whatspeed.curves import curve
 from whatspeed.errors import TooMany
 from whatspeed.exact import Number
 from whatspeed.runs import run
-
-DOOR = [
-    "lock door", "part fetch", "task low 1; work 4 fetch; lock door; work 3; unlock door",
-    "task high 2; sleep 5; lock door; work 2; unlock door; say 1",
-]
-GATE = [
-    "cores 2", "lock door", "part fetch", "task low 1; work 4 fetch; lock door; work 30; unlock door",
-    "task high 2; sleep 5; lock door; work 2; unlock door; work 40",
-]
-MANY = ["cores 2", "part dig", "task one 1; repeat 20; work 1 dig; end", "task two 1; repeat 20; work 1; end"]
 
 
 def told(rows, **factors):

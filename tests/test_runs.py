@@ -3,15 +3,11 @@
 import inspect
 
 from tests.helpers import any_values, others
-from tests.telling import RunCase, amount, changed, fraction, number, program, said, speeds, told
+from tests.telling import DOOR, RunCase, amount, changed, fraction, number, program, said, speeds, told
 from whatspeed.errors import BadTime, NoEvent
 from whatspeed.exact import Number
 from whatspeed.runs import run, shows_run
 
-DOOR = [
-    "lock door", "part fetch", "task low 1; work 4 fetch; lock door; work 3; unlock door",
-    "task high 2; sleep 5; lock door; work 2; unlock door; say 1",
-]
 ROWS = (
     (9, 1), "done",
     (

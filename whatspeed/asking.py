@@ -32,14 +32,13 @@ def greatest(curve):
 
 def falls(curve):
     """(s, t) with s < t and a smaller time at t; None if there is no such pair."""
-    tallest = None
     for cell in curve.cells:
         if cell.time.slope.top < 0:
             return _two_within(cell.stretch)
-        if tallest is not None and _start(cell).is_less(_end(tallest)):
-            return _fallen_pair(tallest, cell)
-        if tallest is None or _end(tallest).is_less(_end(cell)):
-            tallest = cell
+    # Where no cell falls, the time does so only between two neighbours.
+    for cell, follower in zip(curve.cells, curve.cells[1:]):
+        if _start(follower).is_less(_end(cell)):
+            return _fallen_pair(cell, follower)
     return None
 
 
@@ -140,19 +139,13 @@ def _fallen_pair(cell, follower):
 
 def _near_end(cell, level):
     """An s of a cell that does not fall at which it is above a level, which its end is."""
-    stretch = cell.stretch
-    if stretch.has_high:
-        return stretch.high
+    low, high = cell.stretch.low, cell.stretch.high
     meeting = cell.time.meets(level)
-    low = stretch.low if meeting is None or meeting.is_less(stretch.low) else meeting
-    return _half(low, stretch.high)
+    return _half(low if meeting is None or meeting.is_less(low) else meeting, high)
 
 
 def _near_start(cell, level):
     """An s of a cell that does not fall at which it is below a level, which its start is."""
-    stretch = cell.stretch
-    if stretch.has_low:
-        return stretch.low
+    low, high = cell.stretch.low, cell.stretch.high
     meeting = cell.time.meets(level)
-    high = stretch.high if meeting is None or stretch.high.is_less(meeting) else meeting
-    return _half(stretch.low, high)
+    return _half(low, high if meeting is None or high.is_less(meeting) else meeting)

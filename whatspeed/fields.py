@@ -37,7 +37,9 @@ def joined_pieces(lower, upper):
     other, other_trace = upper
     stretch = Stretch(one.low, other.high, has_low=one.has_low, has_high=other.has_high)
     # The Trace at a single s does not tell how the times grow.
-    return stretch, other_trace if one.low == one.high else trace
+    if one.low == one.high:
+        return stretch, other_trace
+    return stretch, trace
 
 
 def piece_around(program, question, s):

@@ -236,9 +236,7 @@ class Machine:
     def _give_core(self, job, core):
         self._on_cores[core] = job
         job.condition = ("run", core)
-        job.got = len(self._passed)
-        if job.left is not None:
-            job.since = job.got
+        job.got = job.since = len(self._passed)
         self.tell("run", job, core)
 
     def _take_step(self):

@@ -65,13 +65,10 @@ class Layout:
         return tuple([Task(at, self._forms[at], self._landing(at + 1)) for at in lines])
 
     def find_statements(self):
-        """The Statements that can be taken, by their lines."""
-        first = min([task.line for task in self.find_tasks()])
-        found = {}
-        for at, form in enumerate(self._forms):
-            if at > first and form.kind not in DECLARES and form.kind not in ("else", "end"):
-                found[at] = Statement(at, form, self._landing(at + 1), self._aside(at))
-        return found
+        """The Statements of all lines; nobody comes to those that are none."""
+        return tuple([
+            Statement(at, form, self._landing(at + 1), self._aside(at)) for at, form in enumerate(self._forms)
+        ])
 
     def _find_blocks(self):
         opened = []
@@ -88,11 +85,10 @@ class Layout:
     def _landing(self, at):
         """The line of the statement that is taken when one comes to a line; None behind the task's last one."""
         while at < len(self._forms) and self._forms[at].kind not in DECLARES:
-            kind = self._forms[at].kind
-            if kind not in ("else", "end"):
+            if self._forms[at].kind not in ("else", "end"):
                 return at
             opener = self._openers[at]
-            if kind == "end" and self._forms[opener].kind != "if":
+            if self._forms[opener].kind != "if":
                 return opener
             at = self._ends[opener] + 1
         return None

@@ -88,8 +88,11 @@ class Run:
     def samples(self, every):
         """A generator of (time, cores) for the times 0, every, twice every and so on."""
         time = Number(0)
+        at = 0
         while not self._times[-1].is_less(time):
-            yield (time, self._trace.passed[self._moment_at(time)].scene.works)
+            while at + 1 < len(self._times) and not time.is_less(self._times[at + 1]):
+                at += 1
+            yield (time, self._trace.passed[at].scene.works)
             time = time + every
 
     def rows(self):

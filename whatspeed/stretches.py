@@ -52,7 +52,7 @@ def _root(line):
 
 def _cut(stretch, s):
     """The parts of a Stretch ahead of s, at s and behind it; all of it, if s is None or not within."""
-    if s is None or s.is_less(stretch.low) or stretch.high.is_less(s) or stretch.low == stretch.high:
+    if s is None or s.is_less(stretch.low) or stretch.high.is_less(s):
         return [stretch]
     parts = []
     if stretch.low.is_less(s):
@@ -65,14 +65,13 @@ def _cut(stretch, s):
 
 
 def _common(one, other):
-    """What two Stretches share; None if it is nothing."""
-    later = other if one.low.is_less(other.low) else one
-    sooner = one if one.high.is_less(other.high) else other
-    has_low = later.has_low and (one.low != other.low or one.has_low and other.has_low)
-    has_high = sooner.has_high and (one.high != other.high or one.has_high and other.has_high)
-    if sooner.high.is_less(later.low) or (later.low == sooner.high and not (has_low and has_high)):
+    """What two Stretches share that overlap or touch; None if it is nothing."""
+    low = other.low if one.low.is_less(other.low) else one.low
+    high = one.high if one.high.is_less(other.high) else other.high
+    has_low = low in one and low in other
+    if low == high and not has_low:
         return None
-    return Stretch(later.low, sooner.high, has_low=has_low, has_high=has_high)
+    return Stretch(low, high, has_low=has_low, has_high=high in one and high in other)
 
 
 def _ends_first(one, other):

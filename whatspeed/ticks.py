@@ -65,13 +65,15 @@ class Clock:
 
     def sign(self, time):
         """-1, 0 or 1 for a time that is less than 0, always 0, or greater than 0."""
-        base, slope = time
-        if slope != 0:
-            self._remember(base, slope)
-        place = self._place(time)
-        if place == (0, 0):
+        at_s, growth = self._place(time)
+        # Only what goes towards 0 on this side turns beyond s.
+        if at_s * growth < 0:
+            self._remember_turn(time)
+        if at_s == 0:
+            at_s = growth
+        if at_s == 0:
             return 0
-        return 1 if place > (0, 0) else -1
+        return 1 if at_s > 0 else -1
 
     def earliest(self, times):
         """The indexes of the times that are earliest."""
@@ -91,11 +93,8 @@ class Clock:
         base, slope = time
         return (base * self._bottom + slope * self._top, slope * self._side)
 
-    def _remember(self, base, slope):
-        at_s, growth = self._place((base, slope))
-        # Time turns to 0 beyond s only if it goes towards 0 on this side.
-        if at_s * growth >= 0:
-            return
+    def _remember_turn(self, time):
+        base, slope = time
         top, bottom = (-base, slope) if slope > 0 else (base, -slope)
         if self._nearest is not None:
             nearest_top, nearest_bottom = self._nearest

@@ -50,7 +50,6 @@ class Trace:
     """All of a run: how it ended, its Moments, and its outputs (index of the moment, task, value)."""
 
     def __init__(self, ending, passed, said, scale):
-        self.ending = ending
         self.passed = passed
         self.story = (ending, tuple([moment.told for moment in passed]))
         self._said = said
@@ -84,12 +83,13 @@ class Trace:
         if not isinstance(task, str) or task not in self.passed[0].scene.conditions:
             raise NoTask(task)
         none = Line(Number(0), Number(0))
+        # None of the lengths stays 0, because no two moments are at the same time.
         lengths = {}
         for at in range(len(self.passed) - 1):
             row = self.passed[at].scene.account_of(task)
             if row is not None:
                 lengths[row] = lengths.get(row, none) + self._whens[at + 1] - self._whens[at]
-        return tuple([(*row, lengths[row]) for row in sorted(lengths) if lengths[row] != none])
+        return tuple([(*row, lengths[row]) for row in sorted(lengths)])
 
     def links(self):
         """The chain: (word, task, line, length) from the last moment back to the first one."""
