@@ -55,7 +55,8 @@ class Machine:
             begun = [job for job in self._jobs if job.condition != LATER]
             self.ending = "done" if all([job.condition == ENDED for job in begun]) else "stuck"
             return
-        due = [coming[at] for at in self._clock.earliest([when for when, _, _, _ in coming])]
+        times = [time for time, _, _, _ in coming]
+        due = [coming[at] for at in self._clock.earliest(times)]
         when, word, job, began = due[0]
         self._now = when
         self._opening = (word, job.name, job.last.line, began)
@@ -149,7 +150,7 @@ class Machine:
         return self._passed[moment].when if moment < len(self._passed) else self._now
 
     def _coming(self):
-        """All that can open the next moment: (time, word, job, moment at which it began), in their sequence."""
+        """All that can be the opening of the next moment, those first that count first: (time, word, job, began)."""
         coming = []
         for job in self._jobs:
             if job.condition == SLEEP:
