@@ -1,4 +1,4 @@
-"""Short ways to write programs and numbers in tests, and to tell what came out."""
+"""Short ways to write programs, numbers and offers in tests, and to tell what came out."""
 
 import unittest
 from fractions import Fraction
@@ -8,7 +8,7 @@ from whatspeed.exact import Number
 from whatspeed.programs import Program
 from whatspeed.runs import run
 
-# The examples of sections 5 and 10, and one with a cell for each meeting of two tasks.
+# The examples of sections 5 and 10, and two with a cell for each meeting of two tasks.
 DOOR = [
     "lock door", "part fetch", "task low 1; work 4 fetch; lock door; work 3; unlock door",
     "task high 2; sleep 5; lock door; work 2; unlock door; say 1",
@@ -18,6 +18,12 @@ GATE = [
     "task high 2; sleep 5; lock door; work 2; unlock door; work 40",
 ]
 MANY = ["cores 2", "part dig", "task one 1; repeat 20; work 1 dig; end", "task two 1; repeat 20; work 1; end"]
+
+# With dig from 0 to 1/99 the tasks never meet, unless haul has a factor near to 0: then they meet too often.
+MANY_BY_HAUL = [
+    "cores 2", "part dig", "part haul", "task one 1; repeat 20; work 1 dig; end",
+    "task two 1; repeat 20; work 1 haul; end",
+]
 
 
 def program(*rows):
@@ -38,6 +44,11 @@ def speeds(**factors):
 def question(**pairs):
     """A question; each part has a pair (start, goal)."""
     return tuple((part, number(start), number(goal)) for part, (start, goal) in sorted(pairs.items()))
+
+
+def offers(*rows):
+    """Offers, or a choice; each row is a text such as `fetch 3/2 5`."""
+    return tuple((part, number(factor), int(price)) for part, factor, price in map(str.split, rows))
 
 
 def number(value):
@@ -99,7 +110,7 @@ def pieces_of(one):
 
 
 def changed(value):
-    """All values that come from a plain value by a change in one place."""
+    """All values that come from a plain value, or one with Numbers in it, by a change in one place."""
     yield from wrong_ones(value)
     if isinstance(value, tuple):
         for at, item in enumerate(value):
@@ -117,6 +128,9 @@ def wrong_ones(value):
     if isinstance(value, int):
         truths = [bool(value)] if value in (0, 1) else []
         return [value + 1, -value - 1, str(value), None, number(value), (value,), *truths]
+    if isinstance(value, Number):
+        pair = (value.top, value.bottom)
+        return [value + Number(2), value - Number(2), value.top, pair, amount(value), None, [value]]
     return [value + " ", value[:-1], value.upper(), [value], (value,), None, 1]
 
 

@@ -4,7 +4,7 @@ from whatspeed.cells import Cell, cell_around
 from whatspeed.errors import NoSpeed, TooMany
 from whatspeed.exact import Number, Stretch, is_whole
 from whatspeed.fields import joined_pieces, pieces
-from whatspeed.questions import check_question, is_within, speeds_at
+from whatspeed.questions import check_question, is_share, is_within, speeds_at
 from whatspeed.values import is_same
 
 MOST_CELLS = 300
@@ -89,7 +89,7 @@ class Curve:
         raise TypeError("a Curve cannot be iterated over")
 
     def __getitem__(self, s):
-        if not _is_share(s):
+        if not is_share(s):
             raise NoSpeed(s)
         return [cell for cell in self._cells if s in cell][0]
 
@@ -99,7 +99,7 @@ class Curve:
 
     def speeds(self, s):
         """The speeds at s, of all parts of the question; raises NoSpeed."""
-        if not _is_share(s):
+        if not is_share(s):
             raise NoSpeed(s)
         return speeds_at(self._question, s)
 
@@ -122,10 +122,6 @@ class Curve:
     def rows(self):
         """The curve in plain values."""
         return tuple([cell.row() for cell in self._cells])
-
-
-def _is_share(value):
-    return is_within(value, Number(0), Number(1))
 
 
 def _first_difference(cell, follower):

@@ -11,6 +11,16 @@ def is_within(value, low, high):
     return isinstance(value, Number) and not value.is_less(low) and not high.is_less(value)
 
 
+def is_factor(value):
+    """Whether any value is a factor of a part."""
+    return is_within(value, Number(0), Number(GREATEST_FACTOR))
+
+
+def is_share(value):
+    """Whether any value is an s: a Number from 0 to 1."""
+    return is_within(value, Number(0), Number(1))
+
+
 def check_speeds(program, speeds):
     """Raises BadSpeeds for any value that is no speeds of the program."""
     if not _are_rows(program, speeds, 2):
@@ -38,7 +48,7 @@ def _are_rows(program, rows, width):
 def _is_row(program, row, width):
     if not isinstance(row, tuple) or len(row) != width or row[0] not in program.parts:
         return False
-    return all([is_within(factor, Number(0), Number(GREATEST_FACTOR)) for factor in row[1:]])
+    return all([is_factor(factor) for factor in row[1:]])
 
 
 def factors_of_speeds(program, speeds):

@@ -1,10 +1,10 @@
 """Whether a value that anybody wrote is a plain value, sign by sign: True is not 1, and a list is no tuple."""
 
-from whatspeed.exact import is_whole
+from whatspeed.exact import Number, is_whole
 
 
 def is_same(plain, value):
-    """Whether any value is this one, which is built from integers, booleans, strings and tuples."""
+    """Whether any value is this one, which is built from integers, booleans, strings, Numbers and tuples."""
     if isinstance(plain, tuple):
         if not isinstance(value, tuple) or len(value) != len(plain):
             return False
@@ -13,6 +13,8 @@ def is_same(plain, value):
         return is_whole(value) and value == plain
     if isinstance(plain, bool):
         return isinstance(value, bool) and value == plain
+    if isinstance(plain, Number):
+        return value == plain
     return isinstance(value, str) and value == plain
 
 
