@@ -1,14 +1,18 @@
-"""The examples of sections 4 to 9 that need nothing of later sections, as they stand there."""
+"""The examples of all sections, as they stand there."""
 
 import unittest
 
-from tests.telling import pieces_of, shown, shown_all, told
+from tests.telling import amount, told
 from whatspeed.asking import falls, greatest, least, pulls, reaches
+from whatspeed.benches import Bench
+from whatspeed.choices import choice
 from whatspeed.curves import curve
+from whatspeed.desk import Desk
 from whatspeed.errors import BadNumber, BadProgram, Doubled, Unnamed
 from whatspeed.exact import Line, Number, Stretch
 from whatspeed.programs import Program
 from whatspeed.runs import run
+from whatspeed.texts import show_curve, show_line, show_stretch
 
 EXAMPLE = """cores 1
 slice 0
@@ -144,25 +148,53 @@ class ExamplesTest(unittest.TestCase):
         )
 
     def test_curve(self):
-        # The example of section 8, without the function of section 12 that shows it.
         one = curve(Program(TEXT), (('fetch', Number(0), Number(2)),))
-        self.assertEqual(pieces_of(one), [
-            "[0 0] done 7", "(0 1/4) done 7", "[1/4 1/4] done 7", "(1/4 5/8) done 5+8s", "[5/8 5/8] done 10",
-            "(5/8 1] done 5+8s",
-        ])
+        self.assertEqual(show_curve(one), (
+            '[0 0] done 7\n(0 1/4) done 7\n[1/4 1/4] done 7\n(1/4 5/8) done 5 + 8s\n[5/8 5/8] done 10\n'
+            '(5/8 1] done 5 + 8s'
+        ))
 
     def test_asking(self):
-        # The first example of section 9, likewise.
         one = curve(Program(GATE), (('fetch', Number(0), Number(2)),))
         self.assertEqual(
             [
-                falls(one) == None, shown(reaches(one, Number(50))[0]), least(one)[0].top,  # noqa: E711
-                shown(least(one)[1]), greatest(one)[0].top, greatest(one)[1],
+                falls(one) == None, show_stretch(reaches(one, Number(50))[0]), least(one)[0].top,  # noqa: E711
+                show_stretch(least(one)[1]), greatest(one)[0].top, greatest(one)[1],
             ],
             [False, '[5/8 1]', 47, '[5/8 1]', 77, None],
         )
-        self.assertEqual(shown_all(reaches(one, Number(50))), "[5/8 1]")
-        self.assertEqual([jump.top for s, _, _, _, jump in one.changes() if s == Number(5, 8)], [-30, 0])
+
+    def test_section_10_in_words(self):
+        # Below 5/8 the time is 8 s + 72, from there on 47.
+        one = curve(Program(GATE), (('fetch', Number(0), Number(2)),))
+        for s in (Number(1, 10), Number(1, 2), Number(624, 1000)):
+            self.assertEqual(one(s), Number(8) * s + Number(72))
+            self.assertEqual(show_line(one[s].time), '72 + 8s')
+        for s in (Number(5, 8), Number(626, 1000), Number(1)):
+            self.assertEqual(one(s), Number(47))
+        self.assertEqual([one(Number(0)).top, one(Number(1)).top], [72, 47])
+        jumps = [(amount(s), amount(jump)) for s, _, _, _, jump in one.changes()]
+        self.assertEqual([jump for jump in jumps if jump[1] != '0'], [('5/8', '-30')])
+        found = reaches(one, Number(50))
+        self.assertEqual([show_stretch(stretch) for stretch in found], ['[5/8 1]'])
+        self.assertGreater(len([cell for cell in one.cells if cell.time(Number(1)) == Number(47)]), 1)
+
+    def test_choice(self):
+        offers = (('fetch', Number(0), 3), ('fetch', Number(2), 1))
+        found = choice(Program(GATE), offers, Number(50))
+        self.assertEqual([found[0], found[1][0][0], found[1][0][1].top], [1, 'fetch', 2])
+
+    def test_bench(self):
+        bench = Bench(TEXT)
+        bench.edit(5, 1, 'work 6 fetch')
+        self.assertEqual([bench.run().time.top, bench.undo(), bench.run().time.top], [11, None, 9])
+
+    def test_desk(self):
+        desk = Desk(TEXT)
+        self.assertEqual(
+            [desk.say('run'), desk.say('why'), desk.say('by 8 fetch 0 2')],
+            ['done 9 high:1', 'work high 12 2; work low 7 2; sleep high 10 5', '[0 3/8]'],
+        )
 
     def test_pulls(self):
         row = pulls(Program(TEXT), ())[0]
